@@ -37,6 +37,13 @@ def must_be_beats(thing):
         raise NoBeats()
 
 
+def must_be_told(net, program, beats):
+    """Refuse what is no net, no program, or no number of beats."""
+    must_be_net(net)
+    must_be_program(program)
+    must_be_beats(beats)
+
+
 def step(net, program, hand, beat, registers, came):
     """One hand's step at a beat: its new registers, and its words by its neighbours' places."""
     must_be_net(net)
@@ -62,13 +69,13 @@ def stepped(program, hand, beat, registers, came):
 
 def plain(net, program, beats):
     """For each beat from 0 to beats the list of the hands' registers."""
-    _must_be_told(net, program, beats)
+    must_be_told(net, program, beats)
     return [[registers for registers, words in row] for row in _plain_steps(net, program, beats)]
 
 
 def letters(net, program, beats):
     """For each beat ahead of the last the list of the letters (from, to, number), rising."""
-    _must_be_told(net, program, beats)
+    must_be_told(net, program, beats)
     ties = all_near(net)
     return [_sent(ties, row) for row in _plain_steps(net, program, beats)[:beats]]
 
@@ -107,12 +114,6 @@ def _is_send_row(row, names):
 
 def _is_all(to):
     return isinstance(to, str) and to == "all"
-
-
-def _must_be_told(net, program, beats):
-    must_be_net(net)
-    must_be_program(program)
-    must_be_beats(beats)
 
 
 def _by_names(program, registers):

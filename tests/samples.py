@@ -141,3 +141,22 @@ ROUND = (
 EMPTY = ([], [], [])
 
 PROGRAMS = [FLOOD, ROUND, EMPTY]
+
+# Each hand tells its neighbours ten times its number, and one more at each beat.
+TEN = (
+    [("a", ("op", "*", ("num", 10), ("hand",)))],
+    [("a", ("op", "+", ("reg", "a"), ("num", 1)))],
+    [("all", ("num", 1), ("reg", "a"))],
+)
+
+# Hand 0 alone writes, and to its first neighbour only.
+SPARE = ([], [], [(("num", 0), ("op", "=", ("hand",), ("num", 0)), ("num", 7))])
+
+
+def told(hall):
+    """All that a hall tells."""
+    hands = range(hall.net()[0])
+    return (
+        hall.net(), hall.last(), hall.sent(), hall.waiting(), hall.counts(), hall.begun(),
+        [(hall.beat(hand), hall.row(hand), hall.has_fallen(hand)) for hand in hands],
+    )

@@ -20,6 +20,24 @@ INTERFACE = {
         "is_program": ["thing"], "plain": ["net", "program", "beats"], "letters": ["net", "program", "beats"],
         "step": ["net", "program", "hand", "beat", "registers", "came"],
     },
+    "halls": {"Hall": ["net", "program", "beats", "way"], "formula": ["net", "way", "words"]},
+    "ticks": {
+        "ticks": ["net", "program", "beats", "way"], "price": ["net", "program", "beats", "way", "letter", "tick"],
+        "best": ["net", "program", "beats", "ways", "letter", "tick"],
+    },
+    "roads": {
+        "play": ["hall", "numbers"], "drive": ["hall", "picks", "most"], "skew": ["hall"], "held": ["hall"],
+        "is_tale": ["net", "tale", "beats"],
+    },
+    "texts": {
+        "show_net": ["net"], "show_parting": ["parting"], "show_program": ["program"], "read_net": ["text"],
+        "read_parting": ["text"], "read_program": ["text"],
+    },
+}
+
+HALL = {
+    "deliver": ["number"], "fall": ["hand"], "beat": ["hand"], "row": ["hand"], "sent": [], "waiting": [], "counts": [],
+    "begun": [], "net": [], "last": [], "has_fallen": ["hand"],
 }
 
 ALLOWED_BUILTINS = (
@@ -46,6 +64,23 @@ class TestInterface(unittest.TestCase):
                 function = getattr(module, name)
                 self.assertEqual(function.__module__, "beatnet." + file)
                 self.assertEqual(list(inspect.signature(function).parameters), arguments)
+
+    def test_defaults(self):
+        for file, functions in INTERFACE.items():
+            for name in functions:
+                for word, argument in inspect.signature(getattr(import_module("beatnet." + file), name)).parameters.items():
+                    if (name, word) == ("drive", "most"):
+                        self.assertEqual((argument.default, argument.kind), (5000, inspect.Parameter.KEYWORD_ONLY))
+                    else:
+                        self.assertIs(argument.default, inspect.Parameter.empty)
+                        self.assertEqual(argument.kind, inspect.Parameter.POSITIONAL_OR_KEYWORD)
+
+    def test_methods_of_a_hall_stand_in_the_class_itself(self):
+        hall = import_module("beatnet.halls").Hall
+        self.assertEqual(hall.__bases__, (object,))
+        for name, arguments in HALL.items():
+            self.assertTrue(inspect.isfunction(vars(hall)[name]))
+            self.assertEqual(list(inspect.signature(vars(hall)[name]).parameters), ["self"] + arguments)
 
 
 class TestLanguage(unittest.TestCase):
